@@ -1,0 +1,1 @@
+"""Landroll: a floor of cells in plots, papers with two dates."""
