@@ -1,7 +1,10 @@
 import unittest
 
 from landroll.ranks import DEEPEST, filled, laid, lifted, overtaken, passed, waived
-from tests.helper import BURDENS, Mix, bits, burden, columns_of, good_strips, mixed_strips, numbers, strips_from
+from tests.helper import (
+    BURDENS, Mix, burden, columns_of, filled_due, good_strips, laid_due, lifted_due, mixed_strips, numbers,
+    overtaken_due, strips_from, waived_due,
+)
 
 FULL = 2 ** 64 - 1
 A, B, C, D = burden(1), burden(2, "way", "bob"), burden(3, "note", "cid", 7, 90), burden(4, "buy", "dot")
@@ -13,67 +16,6 @@ NOWHERE = (6, 77, 10 ** 9 - 1)
 def row(*some):
     """Strips of the cells from 0 on, each with one of these columns."""
     return strips_from(dict(enumerate(some)))
-
-
-def by_numbers(columns):
-    """All burdens of some columns, each once, by number, found apart from the program."""
-    return tuple(sorted({one for column in columns for one in column}))
-
-
-def place_due(column, told):
-    """Where a burden comes in that is laid with these numbers told."""
-    if told is None:
-        return len(column)
-    return max([0] + [place + 1 for place in range(len(column)) if column[place][0] in told])
-
-
-def laid_due(strips, ground, new, told):
-    columns = columns_of(strips)
-    for cell in columns:
-        if cell in numbers(ground):
-            some = list(columns[cell])
-            some.insert(place_due(some, told), new)
-            columns[cell] = tuple(some)
-    return strips_from(columns)
-
-
-def overtaken_due(strips, ground, told):
-    columns = columns_of(strips)
-    return by_numbers(
-        columns[cell][place_due(columns[cell], told):] for cell in columns if cell in numbers(ground)
-    )
-
-
-def lifted_due(strips, number):
-    columns = columns_of(strips)
-    return strips_from({cell: tuple(one for one in columns[cell] if one[0] != number) for cell in columns})
-
-
-def filled_due(strips, ground, note, new):
-    columns = columns_of(strips)
-    for cell in columns:
-        some = [new if one[0] == note else one for one in columns[cell]]
-        if cell not in numbers(ground):
-            some = [one for one in some if one != new]
-        elif new not in some:
-            some.append(new)
-        columns[cell] = tuple(some)
-    return strips_from(columns)
-
-
-def waived_due(strips, number, ahead):
-    """The strips that are due, and the passed ones."""
-    columns = columns_of(strips)
-    gone_by = []
-    for cell in columns:
-        some = list(columns[cell])
-        own = [one[0] for one in some]
-        if number in own and ahead in own and own.index(ahead) > own.index(number):
-            first, last = own.index(number), own.index(ahead)
-            gone_by.append(some[first:last])
-            some.insert(first, some.pop(last))
-            columns[cell] = tuple(some)
-    return strips_from(columns), by_numbers(gone_by)
 
 
 class Ranks(unittest.TestCase):

@@ -3,78 +3,13 @@ from fractions import Fraction
 
 from landroll.errors import BadShares, TooFine, TooLittle
 from landroll.shares import FINEST, hand_on, is_name, mixed, owners, pressed, share_of, shares_of
-from tests.helper import NO_NUMBERS, Mix, refused
-
-BIG = 10 ** 60
-NAMES = ("a", "ann", "annabell", "bob", "cid", "dot", "eve", "z", "zoe", "zzzzzzzz")
-NO_NAMES = (
-    "", "abcdefghi", "a" * 100, "A", "Ann", "anN", "ann1", "1", "0", " ", "a b", " a", "a ", "a\n", "\n", "a-b", "a_b",
-    "a.b", "`", "{", "\u00e4", "\u00df", "\u0430", "\u0131", "\uff41", "\u00aa", "a\u0301", "\x00", "a\x00",
-    "\ud800", ("ann",), ["ann"], ["a"], {"ann": 1}, {"a"}, b"ann", b"a", 0, 1, 10 ** 30,
-) + tuple(thing for thing in NO_NUMBERS if thing != "abc")
+from tests.helper import (
+    BIG, NAMES, NO_NAMES, Mix, blended, handed, is_too_fine, mixed_shares, pair, plain, refused, shares_from, squeezed,
+)
 
 HALVES = (("ann", (1, 2)), ("bob", (1, 2)))
 WHOLE = (("ann", (1, 1)),)
 THREE = (("ann", (1, 2)), ("bob", (1, 3)), ("cid", (1, 6)))
-
-
-def pair(number):
-    return (number.numerator, number.denominator)
-
-
-def plain(shares):
-    """A dict of Python's own fractions by names."""
-    return {name: Fraction(*share) for name, share in shares}
-
-
-def told(held):
-    """The shares of such a dict, without those who hold nought."""
-    return tuple((name, pair(held[name])) for name in sorted(held) if held[name] != 0)
-
-
-def is_too_fine(held):
-    return any(number.denominator > BIG for number in held.values())
-
-
-def mixed_shares(mix, most=6, figures=6):
-    """Shares of some of NAMES."""
-    names = mix.some_of(NAMES, 1 + mix.below(most))
-    counts = [1 + mix.below(10 ** (1 + mix.below(figures))) for name in names]
-    return told({name: Fraction(count, sum(counts)) for name, count in zip(names, counts)})
-
-
-def handed(shares, giver, taker, part):
-    held = plain(shares)
-    held[giver] = held.get(giver, 0) - Fraction(*part)
-    held[taker] = held.get(taker, 0) + Fraction(*part)
-    return held
-
-
-def blended(one, many, other, more):
-    one, other = plain(one), plain(other)
-    return {
-        name: (many * one.get(name, Fraction(0)) + more * other.get(name, Fraction(0))) / (many + more)
-        for name in list(one) + list(other)
-    }
-
-
-def squeezed(shares, giver, taker, part):
-    """What is due by [23]: the shares, as a dict, and the losses."""
-    held = plain(shares)
-    if giver == taker:
-        return held, ()
-    part = Fraction(*part)
-    given = min(part, held.get(giver, Fraction(0)))
-    others = {name: held[name] for name in held if name not in (giver, taker)}
-    whole = sum(others.values())
-    taken = min(part - given, whole)
-    losses = {name: taken * others[name] / whole for name in others}
-    for name in losses:
-        held[name] -= losses[name]
-    if giver in held:
-        held[giver] -= given
-    held[taker] = held.get(taker, Fraction(0)) + given + taken
-    return held, told(losses)
 
 
 class Shares(unittest.TestCase):
@@ -96,7 +31,7 @@ class Shares(unittest.TestCase):
 
     def same(self, shares, held):
         self.good(shares)
-        self.assertEqual(shares, told(held))
+        self.assertEqual(shares, shares_from(held))
 
 
 class Names(Shares):
@@ -316,7 +251,7 @@ class HandedOn(Shares):
             "ann": Fraction(1, 2 * one), "bob": Fraction(1, 2 * other),
             "cid": Fraction(one - 1, 2 * one), "dot": Fraction(other - 1, 2 * other),
         }
-        shares = told(held)
+        shares = shares_from(held)
         self.good(shares)
         due = handed(shares, "ann", "bob", (1, 2 * one))
         self.assertEqual([name for name in due if due[name].denominator > BIG], ["bob"])
@@ -326,13 +261,13 @@ class HandedOn(Shares):
     def test_all_bottoms_are_looked_at(self):
         held = {"ann": Fraction(1, 2), "bob": Fraction(1, 2 * BIG + 2)}
         held["cid"] = 1 - sum(held.values())
-        refused(self, TooFine, hand_on, told(held), "ann", "dot", (1, 4))
-        refused(self, TooFine, hand_on, told(held), "ann", "ann", (1, 4))
+        refused(self, TooFine, hand_on, shares_from(held), "ann", "dot", (1, 4))
+        refused(self, TooFine, hand_on, shares_from(held), "ann", "ann", (1, 4))
 
     def test_what_was_too_fine_may_go(self):
         held = {"ann": Fraction(1, BIG), "bob": Fraction(BIG - 1, BIG)}
-        self.assertEqual(hand_on(told(held), "ann", "bob", (1, BIG)), (("bob", (1, 1)),))
-        self.assertEqual(hand_on(told(held), "bob", "ann", (BIG // 2 - 1, BIG)), (("ann", (1, 2)), ("bob", (1, 2))))
+        self.assertEqual(hand_on(shares_from(held), "ann", "bob", (1, BIG)), (("bob", (1, 1)),))
+        self.assertEqual(hand_on(shares_from(held), "bob", "ann", (BIG // 2 - 1, BIG)), HALVES)
 
     def test_many(self):
         mix = Mix(7)
@@ -401,7 +336,8 @@ class Mixed(Shares):
 
     def test_some_bottoms_fine_and_others_not(self):
         bottom = 10 ** 59 + 9
-        one = told({"ann": Fraction(1, bottom), "bob": Fraction(1, 2) - Fraction(1, bottom), "cid": Fraction(1, 2)})
+        least = Fraction(1, bottom)
+        one = shares_from({"ann": least, "bob": Fraction(1, 2) - least, "cid": Fraction(1, 2)})
         self.assertLessEqual(max(share[1] for name, share in one), BIG)
         refused(self, TooFine, mixed, one, 1, (("cid", (1, 1)),), 99)
 
@@ -503,14 +439,14 @@ class Pressed(Shares):
         refused(self, TooFine, pressed, WHOLE, "cid", "bob", (1, BIG + 1))
         refused(self, TooFine, pressed, HALVES, "cid", "bob", (1, BIG - 1))
         refused(self, TooFine, pressed, THREE, "cid", "zoe", (BIG // 2, BIG + 1))
-        fine = told({"ann": Fraction(1, BIG + 1), "bob": Fraction(BIG, BIG + 1)})
+        fine = shares_from({"ann": Fraction(1, BIG + 1), "bob": Fraction(BIG, BIG + 1)})
         refused(self, TooFine, pressed, fine, "bob", "bob", (1, 2))
         self.assertEqual(pressed(HALVES, "ann", "bob", (BIG, BIG + 1)), ((("bob", (1, 1)),), ()))
 
     def test_losses_have_the_figures_that_they_need(self):
         low, high, times = 10 ** 40 + 1, 10 ** 55 + 3, 7
         top = high - low * times
-        shares = told({"x": Fraction(1, low), "y": Fraction(low - 1, low)})
+        shares = shares_from({"x": Fraction(1, low), "y": Fraction(low - 1, low)})
         told_now = self.due(shares, "nobody", "t", (top, high))
         self.assertGreater(min(share[1] for name, share in told_now[1]), BIG)
         self.assertEqual([name for name, share in told_now[1]], ["x", "y"])
